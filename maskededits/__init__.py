@@ -1,0 +1,1 @@
+"""One document, edited through levels that hide what is above them."""
