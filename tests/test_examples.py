@@ -15,6 +15,30 @@ EXAMPLES = {
 >>> [name_text((("open", "", 3), ("red", "pad", 12))), parse_name("open.3"), parse_name("/")]
 ['open.3+red.pad.12', (('open', '', 3),), ()]
 ''',
+    7: r'''
+>>> from maskededits.engine import Engine
+>>> from maskededits.levels import Levels
+>>> engine = Engine(Levels(["low", "high"]))
+>>> told = [engine.perform("low", ("pocket", (), 0, "high", "plans")), engine.perform("high", ("insert", (("low", "", 1),), 0, "line", "secret"))]
+>>> [told, engine.perform("low", ("change", (("high", "", 1),), "x")), engine.perform("low", ("delete", (("low", "", 1),)))]
+[[('told', (('low', '', 1),)), ('told', (('high', '', 1),))], ('refused', 'name', (('high', '', 1),)), ('told', 1)]
+''',
+    10: r'''
+>>> from maskededits.engine import Engine
+>>> from maskededits.levels import Levels
+>>> engine = Engine(Levels(["low", "high"]))
+>>> done = [engine.perform("low", ("pocket", (), 0, "high", "plans")), engine.perform("high", ("insert", (("low", "", 1),), 0, "line", "secret")), engine.perform("low", ("delete", (("low", "", 1),)))]
+>>> [engine.view("low").tree(), engine.view("high").attic(), len(engine.view("high"))]
+[(), (((('low', '', 1),), 'high', (((('high', '', 1),), 'line', 'secret', None, ()),)),), 1]
+''',
+    27: r'''
+>>> from maskededits.engine import Engine
+>>> from maskededits.levels import Levels
+>>> engine = Engine(Levels(["low", "high"]))
+>>> done = [engine.perform("low", ("pocket", (), 0, "high", "plans")), engine.perform("high", ("insert", (("low", "", 1),), 0, "line", "secret"))]
+>>> [engine.perform("low", ("script", text)) for text in ['for n in find("pocket") { tell text(n); } tell size(kids(node("/")));', 'insert(node("/"), 0, "line", "a"); tell 1 + "b";', "tell 1"]]
+[('told', (('text', 'plans'), ('number', 1))), ('refused', 'script', ('kind', 11, '+')), ('refused', 'script', ('syntax', 6))]
+''',
 }
 
 
