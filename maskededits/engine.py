@@ -126,7 +126,8 @@ class Engine:
 
     def state(self, level):
         """Returns a value that is equal for engines in which a level and all below it stand alike."""
-        shown = self.levels.downs(level)
+        # Sorted, because the order in which an engine lists its levels does not count.
+        shown = sorted(self.levels.downs(level))
         return (
             tuple(shown),
             self.document.summary(shown),

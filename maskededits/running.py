@@ -229,7 +229,8 @@ class Run:
     def node_value(self, text):
         """Returns the name of a seen node, or of the root box, that a text writes."""
         name = name_written(text)
-        if name is None or (name != () and name not in self.sight()):
+        # What is no name is none that is seen, either.
+        if name != () and name not in self.sight():
             self.stop("name", text)
         return ("name", name)
 

@@ -517,6 +517,17 @@ class MarkTests(EngineCase):
             self.assertEqual(engine.twin().perform("low", ("change", low(1), "x"), "", mark), ("told", ""))
         self.assertEqual(engine.perform("low", ("insert", (), 0, "line", ""), "", ("low", "pad", 1))[0], "told")
 
+    def test_deeds_that_make_no_marks_take_any_mark_of_the_level(self):
+        engine = two_levels()
+        told(engine, "low", ("insert", (), 0, "line", ""))
+        mark = ("low", "", 1)
+        for deed, answer in [(None, ("refused", "deed", None)), (("insert", (), 0), None), (("undo",), None),
+                             (("redo",), None), (("move", low(1), (), 0), None), (("script", ""), ("told", ())),
+                             (("delete", low(9)), ("refused", "name", low(9))), (("delete", low(1)), ("told", 1))]:
+            told_now = engine.perform("low", deed, "", mark)
+            if answer is not None:
+                self.assertEqual(told_now, answer)
+
     def test_typed_needs_free_marks_from_the_first_one_on(self):
         engine = two_levels()
         engine.perform("low", ("insert", (), 0, "line", ""), "", ("low", "", 10))

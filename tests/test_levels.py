@@ -211,6 +211,9 @@ class EqualityTests(unittest.TestCase):
         self.assertTrue(one == Levels(["a", "b", "c", "d"], [("c", "d"), ("b", "c"), ("b", "d"), ("a", "d")]))
         self.assertFalse(one != Levels(["a", "b", "c", "d"], [("c", "d"), ("b", "c"), ("b", "d")]))
 
+    def test_the_order_of_names_counts(self):
+        self.assertFalse(Levels(["a", "b", "c"]) == Levels(["a", "c", "b"]))
+
     def test_others(self):
         one = Levels(["a", "b", "c"], [("b", "c")])
         for other in [Levels(["a", "b", "c"]), Levels(["a", "b", "d"], [("b", "d")]), Levels(["a", "b"]),

@@ -383,6 +383,14 @@ class TryTests(RunCase):
             number(1), number(1), number(9), ("name", low(5)))
         self.assertEqual(texts(behind.engine, "low"), ["stays", "abc", "p"])
 
+    def test_what_is_seen_behind_a_block_that_stopped(self):
+        self.tells(f'try {{ insert({ROOT}, 0, "line", ""); x = size(find("line")); tell y; }} tell size(find("line"));',
+                   number(0))
+        self.tells(f'tell size(find("line")); insert({ROOT}, 0, "line", ""); tell size(find("line"));',
+                   number(0), number(1))
+        self.tells('try { delete(node("low.1")); x = kids(node("/")); tell y; } else { tell text(node("low.1")); }',
+                   text("abc"))
+
     def test_each_stop_but_steps_is_caught(self):
         for source in ["tell x;", 'tell 1 + "a";', f"tell {LARGEST} + 1;", 'tell item(find("none"), 0);',
                        'tell node("x");', 'tell kids(node("low.4"));', f'change({ROOT}, "");', "for n in 1 {}"]:

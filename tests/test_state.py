@@ -197,6 +197,24 @@ class StateTests(unittest.TestCase):
                           ("delete", low(1)))])
         self.assertEqual(self.states(*rows), [False, False])
 
+    def test_what_copied_boxes_and_nodes_in_them_hold(self):
+        start = [("low", ("pocket", (), 0, "high", "")),
+                 ("high", ("typed", ("list", "", (("item", "a", ()), ("item", "b", ()))), low(1), 0),
+                  ("insert", low(1), 1, "line", ""))]
+        copied = ("low", ("copy", low(1), (), 0))
+        for moved in [("move", high(2), high(1), 1), ("move", high(4), low(1), 0)]:
+            rows = [start + [copied, ("high", moved)], start + [("high", moved), copied]]
+            self.assertEqual(self.states(*rows), [True, False], moved)
+
+    def test_the_order_in_which_levels_are_listed_does_not_count(self):
+        states = []
+        for names in [["low", "east", "west", "top"], ["low", "west", "east", "top"]]:
+            engine = Engine(Levels(names, [("east", "top"), ("west", "top")]))
+            told(engine, "low", ("pocket", (), 0, "east", ""), ("pocket", (), 1, "west", ""))
+            told(engine, "east", ("insert", low(1), 0, "line", ""))
+            states.append(engine.state("top"))
+        self.assertEqual(*states)
+
     def test_levels_below_count_and_others_do_not(self):
         engine, other = busy(), busy()
         told(other, "east", ("change", EAST, "new"))

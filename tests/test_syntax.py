@@ -48,6 +48,18 @@ class WordTests(ReadCase):
         self.invalid('tell "a""b";', 8)
         self.written('tell "' + "x" * 1992 + '";', 'tell "' + "x" * 1992 + '";')
 
+    def test_texts_that_read_like_other_tokens(self):
+        for text in KEYWORDS + ["(", ")", "{", "}", ",", ";", "=", *OPERATORS, "a", "1", "find"]:
+            self.written(f'"{text}";', f'"{text}";')
+            self.written(f'x = "{text}" + "{text}";', f'x = "{text}" + "{text}";')
+            self.invalid(f'tell a "{text}" b;', 7)
+            self.invalid(f'x "{text}" 1;', 2)
+            self.invalid(f'if a "{text}";', 5)
+            self.invalid(f'tell find"{text}";', 9)
+            self.invalid(f'tell find(1 "{text}" 2);', 12)
+            self.invalid(f'for a "{text}" b {{}}', 6)
+            self.invalid(f'"{text}" {{}}', len(text) + 3)
+
     def test_text_without_end(self):
         for text in ['tell "', 'tell "abc', 'tell "a\nb', 'tell "\u00e9', 'tell "abc;']:
             self.invalid(text, 5)
