@@ -76,23 +76,21 @@ class Document:
 
     def piece(self, name):
         """Returns a node and all nodes of its level in it."""
-        found = []
-        waiting = [name]
-        while waiting:
-            each = waiting.pop()
-            found.append(each)
-            if each not in self.boxes:
-                waiting.extend(self.held[each])
-        return found
+        return self.gathered(name, False)
 
     def whole(self, name):
         """Returns a node and all nodes in it, those in boxes included."""
+        return self.gathered(name, True)
+
+    def gathered(self, name, into_boxes):
+        """Returns a node and all nodes in it, with or without those in boxes."""
         found = []
         waiting = [name]
         while waiting:
             each = waiting.pop()
             found.append(each)
-            waiting.extend(self.held[each])
+            if into_boxes or each not in self.boxes:
+                waiting.extend(self.held[each])
         return found
 
     def own_many(self, names, level):
