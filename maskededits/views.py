@@ -3,6 +3,11 @@
 from maskededits.errors import NotSeen
 from maskededits.names import is_name
 
+# The places of the parts in a row of a view.
+KIND = 0
+TEXT = 1
+LEVEL = 2
+INNER = 3
 HOLDER = 4
 
 

@@ -202,13 +202,17 @@ class NameTests(unittest.TestCase):
                 self.assertNotIn(node.attr, BUILTIN_METHODS - {"count", "index", "find", "get", "join", "copy"})
 
     def test_l23_no_other_function_has_the_name_of_a_generator(self):
-        functions = nodes_of(ast.FunctionDef)
-        generators = set()
-        for _, node in functions:
+        generators, others = [], set()
+        for _, node in nodes_of(ast.FunctionDef):
             if any(isinstance(part, (ast.Yield, ast.YieldFrom)) for part in ast.walk(node)):
-                generators.add(node.name)
+                generators.append(node.name)
+            else:
+                others.add(node.name)
+        # The document itself names two methods records that yield, one of Past and one of Copy.
+        self.assertEqual(len(generators), len(set(generators)) + 1, generators)
+        self.assertEqual(generators.count("records"), 2)
         for word in generators:
-            self.assertEqual(sum(node.name == word for _, node in functions), 1, word)
+            self.assertNotIn(word, others)
             self.assertNotIn(word, BUILTIN_METHODS)
 
 
