@@ -31,6 +31,35 @@ EXAMPLES = {
 >>> [engine.view("low").tree(), engine.view("high").attic(), len(engine.view("high"))]
 [(), (((('low', '', 1),), 'high', (((('high', '', 1),), 'line', 'secret', None, ()),)),), 1]
 ''',
+    11: r'''
+>>> from maskededits.engine import Engine
+>>> from maskededits.levels import Levels
+>>> from maskededits.queries import from_root, of_kind, size_below, with_text
+>>> engine = Engine(Levels(["low", "high"]))
+>>> done = [engine.perform("low", ("insert", (), 0, "list", "plans")), engine.perform("low", ("pocket", (), 1, "high", "notes")), engine.perform("high", ("insert", (("low", "", 2),), 0, "item", "our plans"))]
+>>> low, high = engine.view("low"), engine.view("high")
+>>> [len((from_root() // with_text("plans"))(low)), len((from_root() // with_text("plans"))(high)), size_below(low, ()), size_below(high, ()), (from_root() >> ~of_kind("list"))(low)]
+[1, 2, 2, 3, [(('low', '', 2),)]]
+''',
+    13: r'''
+>>> from maskededits.engine import Engine
+>>> from maskededits.levels import Levels
+>>> from maskededits.moments import Moment, Past
+>>> engine = Engine(Levels(["low", "east", "west", "top"], [("east", "top"), ("west", "top")]))
+>>> done = [engine.perform("low", ("pocket", (), 0, "east", "e")), engine.perform("low", ("pocket", (), 0, "west", "w")), engine.perform("east", ("insert", (("low", "", 1),), 0, "item", "x")), engine.perform("west", ("insert", (("low", "", 2),), 0, "item", "y"))]
+>>> past = Past(engine, "top")
+>>> [Moment({"low": 2, "west": 1}) in past, Moment({"low": 1, "west": 1}) in past, [moment.deeds for moment in past.cuts()], past.first_with("west", 1).by_level()]
+[True, False, [0, 1, 2, 3, 4], {'low': 2, 'west': 1}]
+''',
+    14: r'''
+>>> from maskededits.engine import Engine
+>>> from maskededits.levels import Levels
+>>> from maskededits.texts import format_view, parse_lines
+>>> engine = Engine(Levels(["low", "high"]))
+>>> done = [engine.perform("low", ("pocket", (), 0, "high", "notes")), engine.perform("high", ("insert", (("low", "", 1),), 0, "item", 'say "no"'))]
+>>> [format_view(engine.view("low")), format_view(engine.view("high")), str(parse_lines("item - \"x\"")[0])]
+['pocket low.1 [high] "notes"', 'pocket low.1 {high} "notes"\n  item high.1 "say \\"no\\""', 'item - "x"']
+''',
     27: r'''
 >>> from maskededits.engine import Engine
 >>> from maskededits.levels import Levels
