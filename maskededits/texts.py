@@ -153,9 +153,10 @@ def parse_lines(text):
     """Returns the lines that a text writes."""
     if not isinstance(text, str):
         raise InvalidText(None)
+    rows = text.split("\n") if text != "" else []
     lines = []
     has_loose = False
-    for index, row in enumerate(text.split("\n") if text != "" else []):
+    for index, row in enumerate(rows):
         line = line_in_row(row, index)
         if line.depth > greatest_depth(lines):
             raise InvalidText(index)

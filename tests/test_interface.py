@@ -5,11 +5,19 @@ import inspect
 import os
 import unittest
 
+import maskededits.edits
 import maskededits.engine
+import maskededits.errors
 import maskededits.levels
+import maskededits.moments
 import maskededits.names
+import maskededits.queries
+import maskededits.records
+import maskededits.release
+import maskededits.replicas
 import maskededits.running
 import maskededits.syntax
+import maskededits.texts
 import maskededits.views
 
 ROOT = os.path.dirname(os.path.dirname(os.path.abspath(__file__)))
@@ -17,6 +25,14 @@ FUNCTIONS = {
     "levels": {"is_word": ["thing"]},
     "names": {"is_mark": ["thing"], "is_name": ["thing"], "name_text": ["name"], "parse_name": ["text"]},
     "running": {"run_script": ["script", "desk", "steps"]},
+    "queries": {
+        "of_kind": ["word"], "with_text": ["text"], "of_level": ["level"], "closed_pockets": [], "any_node": [],
+        "from_root": [], "from_loose": [], "size_below": ["view", "name"], "sorted_by": ["view", "names", "key"],
+        "grouped_by": ["view", "names", "key"], "compare_views": ["one", "other"]},
+    "texts": {"quoted": ["text"], "format_view": ["view"], "parse_lines": ["text"]},
+    "release": {"payload_of": ["view", "name"]},
+    "records": {"records_in_order": ["levels", "records"], "played_records": ["levels", "records", "limit"]},
+    "replicas": {"base_of": ["engine", "level"]},
 }
 CLASSES = {
     "levels": {"Levels": {
@@ -34,7 +50,43 @@ CLASSES = {
     "syntax": {"Script": {
         "read": ["text"], "__str__": [], "__eq__": ["other"], "__add__": ["other"], "__len__": [], "call_words": [],
         "__contains__": ["word"]}},
+    "queries": {
+        "Condition": {"__call__": ["view", "name"], "__and__": ["other"], "__or__": ["other"], "__invert__": [],
+                      "__eq__": ["other"]},
+        "Path": {"__call__": ["view"], "__rshift__": ["other"], "__floordiv__": ["other"], "__or__": ["other"],
+                 "__and__": ["other"], "__sub__": ["other"], "__eq__": ["other"]},
+        "Difference": {"gone": [], "new": [], "changed": [], "moved": [], "__bool__": [], "__eq__": ["other"]}},
+    "moments": {
+        "Moment": {"__init__": ["counts"], "__getitem__": ["level"], "by_level": [], "deeds": [], "__and__": ["other"],
+                   "__or__": ["other"], "is_within": ["other"], "__eq__": ["other"]},
+        "Past": {"__init__": ["engine", "level"], "start": [], "now": [], "__contains__": ["moment"],
+                 "__call__": ["moment"], "records": ["one", "other"], "cuts": [], "first_with": ["level", "number"],
+                 "last_without": ["level", "number"], "made": ["name"], "changes": ["one", "other"]}},
+    "texts": {"Line": {"__init__": ["depth", "kind", "node_name", "inner", "is_open", "text"], "__str__": [],
+                       "__eq__": ["other"]}},
+    "edits": {"Edit": {"__init__": ["view", "level", "text"], "__len__": [], "kinds": [], "moves": [],
+                       "__call__": ["perform"]}},
+    "release": {"Releases": {
+        "__init__": ["engine", "rights"], "offer": ["user", "level", "name", "to", "holder", "place"],
+        "approve": ["user", "level", "number"], "withdraw": ["user", "level", "number"], "offers": ["user", "level"]}},
+    "records": {"Record": {"__init__": ["mark", "stamp", "after", "act", "first"], "__eq__": ["other"]}},
+    "replicas": {
+        "Copy": {"__init__": ["levels", "base", "level", "source", "limit"], "perform": ["deed"], "records": [],
+                 "answer": ["mark"], "view": [], "__contains__": ["mark"], "__len__": [], "merge": ["other"],
+                 "joined": ["other"], "twin": [], "__eq__": ["other"]},
+        "Home": {"__init__": ["engine", "taken"], "take": ["copy"], "marks": [], "__contains__": ["mark"],
+                 "__len__": []}},
 }
+PROPERTIES = [
+    (maskededits.levels.Levels, "least"), (maskededits.queries.Difference, "gone"), (maskededits.queries.Difference, "new"),
+    (maskededits.queries.Difference, "changed"), (maskededits.queries.Difference, "moved"),
+    (maskededits.moments.Moment, "deeds"), (maskededits.moments.Past, "start"), (maskededits.moments.Past, "now"),
+    (maskededits.edits.Edit, "moves"),
+]
+GENERATORS = [
+    maskededits.views.View.walk, maskededits.syntax.Script.call_words, maskededits.moments.Past.records,
+    maskededits.moments.Past.cuts, maskededits.release.Releases.offers, maskededits.replicas.Copy.records,
+]
 
 
 def tree_of(module):
@@ -70,6 +122,16 @@ class InterfaceTests(unittest.TestCase):
         self.assertEqual([limit.default, limit.kind], [40, inspect.Parameter.KEYWORD_ONLY])
         self.assertEqual(inspect.signature(maskededits.running.run_script).parameters["steps"].default, 400)
         self.assertEqual(inspect.signature(maskededits.levels.Levels).parameters["pairs"].default, ())
+        for made, word, default in [(maskededits.replicas.Copy, "limit", 40), (maskededits.replicas.Home, "taken", ()),
+                                    (maskededits.records.played_records, "limit", 40)]:
+            found = inspect.signature(made).parameters[word]
+            self.assertEqual([found.default, found.kind], [default, inspect.Parameter.KEYWORD_ONLY])
+
+    def test_properties_and_what_yields(self):
+        for owner, word in PROPERTIES:
+            self.assertIsInstance(vars(owner)[word], property)
+        for method in GENERATORS:
+            self.assertTrue(inspect.isgeneratorfunction(method), method)
 
     def test_arguments_by_name(self):
         levels = maskededits.levels.Levels(names=["low", "high"], pairs=())
@@ -94,6 +156,47 @@ class InterfaceTests(unittest.TestCase):
         self.assertEqual(maskededits.names.name_text(name=name), "low.1")
         self.assertTrue(maskededits.names.is_name(thing=name) and maskededits.names.is_mark(thing=name[0]))
         self.assertTrue(maskededits.levels.is_word(thing="low"))
+
+    def test_arguments_of_later_stages_by_name(self):
+        levels = maskededits.levels.Levels(["low", "high"])
+        engine = maskededits.engine.Engine(levels)
+        engine.perform("low", ("insert", (), 0, "line", "a"))
+        view, name = engine.view("low"), (("low", "", 1),)
+        queries, release, records = maskededits.queries, maskededits.release, maskededits.records
+        conditions = [queries.of_kind(word="line"), queries.with_text(text="a"), queries.of_level(level="low")]
+        self.assertEqual([each(view=view, name=name) for each in conditions], [True] * 3)
+        self.assertEqual(queries.from_root()(view=view), [()])
+        self.assertEqual(queries.size_below(view=view, name=()), 1)
+        self.assertEqual(queries.sorted_by(view=view, names=[name], key="size"), [name])
+        self.assertEqual(queries.grouped_by(view=view, names=[name], key="size"), {1: [name]})
+        self.assertFalse(queries.compare_views(one=view, other=view))
+        past, moment = maskededits.moments.Past(engine=engine, level="low"), maskededits.moments.Moment(counts={"low": 1})
+        self.assertEqual([past.first_with(level="low", number=1), past.made(name=name)], [moment, moment])
+        self.assertEqual(past.last_without(level="low", number=1), past.start)
+        self.assertEqual([len(list(past.records(one=past.start, other=moment))), moment.is_within(other=moment)], [1, True])
+        self.assertEqual(past.changes(one=past.start, other=moment).new, [name])
+        self.assertEqual(past(moment=moment), view)
+        text = maskededits.texts.format_view(view=view)
+        self.assertEqual(str(maskededits.texts.parse_lines(text=text)[0]), text)
+        self.assertEqual(maskededits.texts.quoted(text="a"), '"a"')
+        edit = maskededits.edits.Edit(view=view, level="low", text=text)
+        self.assertEqual(edit(perform=print), [])
+        self.assertEqual(release.payload_of(view=view, name=name), ("line", "a", ()))
+        releases = release.Releases(engine=engine, rights={"ann": ["low"]})
+        with self.assertRaises(maskededits.errors.Refused):
+            releases.offer(user="ann", level="low", name=name, to="low", holder=(), place=0)
+        for act in (releases.approve, releases.withdraw):
+            with self.assertRaises(maskededits.errors.NoOffer):
+                act(user="ann", level="low", number=1)
+        self.assertEqual(list(releases.offers(user="ann", level="low")), [])
+        self.assertEqual(records.records_in_order(levels=levels, records=[]), [])
+        self.assertEqual(records.played_records(levels=levels, records=[], limit=3)[1], {})
+        base = maskededits.replicas.base_of(engine=engine, level="low")
+        copy = maskededits.replicas.Copy(levels=levels, base=base, level="low", source="pad", limit=40)
+        copy.perform(deed=("delete", name))
+        self.assertEqual([copy.answer(mark=("low", "pad", 1)), copy.merge(other=copy), copy.joined(other=copy) == copy],
+                         [("told", 1), [], True])
+        self.assertEqual(len(maskededits.replicas.Home(engine=engine, taken=()).take(copy=copy)), 1)
 
 
 if __name__ == "__main__":

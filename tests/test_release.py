@@ -7,6 +7,7 @@ from maskededits.engine import Engine
 from maskededits.errors import InvalidLevel, NoOffer, NoRight, NotSeen, Refused, SameUser
 from maskededits.levels import Levels
 from maskededits.release import Releases, payload_of
+from model import Deeds, Model
 
 RIGHTS = {"ann": ["low", "high"], "bob": ("high",), "cid": ["low"], "dan": []}
 NO_LEVELS = ["", "none", None, 0, True, (), ["low"], {}, b"low"]
@@ -256,6 +257,70 @@ class ReleaseTests(unittest.TestCase):
         rights["eve"] = ["low"]
         self.assertEqual(self.refusal(NoRight, lambda: list(releases.offers("eve", "low"))), "eve")
         self.assertIs(releases.engine, engine)
+
+
+class TellingTests(unittest.TestCase):
+    """[4] (a): what is told comes from levels below alone; a release stays as the deed of the lower level."""
+
+    def outcome(self, act, *parts):
+        try:
+            return ("told", act(*parts))
+        except (Refused, NoOffer, SameUser, NoRight) as error:
+            return (error.__class__.__name__, getattr(error, "word", None), error.value)
+
+    def call(self, engine, releases, call):
+        word, level, *parts = call
+        if word == "deed":
+            return engine.perform(level, parts[0])
+        if word == "offers":
+            return list(releases.offers("ann", level))
+        acts = {"offer": releases.offer, "approve": releases.approve, "withdraw": releases.withdraw}
+        return self.outcome(acts[word], parts[0], level, *parts[1:])
+
+    def random_calls(self, chance, engine, releases, deeds):
+        levels, model = engine.levels, Model(engine.levels)
+        first = [("low", ("pocket", (), 0, inner, "")) for inner in levels.ups("low")[1:]]
+        first += [(inner, ("insert", low(at + 1), 0, "list", inner)) for at, inner in enumerate(levels.ups("low")[1:])]
+        for level, deed in first:
+            model.perform(level, deed)
+            yield ("deed", level, deed)
+        for _ in range(60):
+            level, user = chance.choice(levels.names()), chance.choice(["ann", "bob"])
+            word = chance.choice(["deed", "deed", "offer", "offer", "offer", "approve", "approve", "withdraw", "offers"])
+            if word == "deed":
+                deed = deeds.deed(model, level)
+                model.perform(level, deed)
+                yield (word, level, deed)
+            elif word == "offer":
+                to, view = chance.choice(levels.downs(level)), engine.view(level)
+                names = [name for name in view.walk() if view[name][2] == level and view[name][3] is None]
+                yield (word, level, user, chance.choice([*names, ()]), to, chance.choice([deeds.holder(model, to), ()]), 0)
+            elif word == "offers":
+                yield (word, level)
+            else:
+                yield (word, level, user, chance.choice([*releases.waiting[level], 1]))
+
+    def test_random_histories(self):
+        approved = 0
+        for seed in range(60):
+            levels = diamond().levels
+            deeds, rights = Deeds(seed, levels), {"ann": levels.names(), "bob": levels.names()}
+            engine, rows = Engine(levels), []
+            releases = Releases(engine, rights)
+            for call in self.random_calls(deeds.random, engine, releases, deeds):
+                offer = releases.waiting[call[1]].get(call[3]) if call[0] == "approve" else None
+                rows.append((call, offer, self.call(engine, releases, call)))
+                approved += offer is not None and rows[-1][2][0] == "told"
+            for level in levels.names():
+                alone = Engine(levels)
+                others = Releases(alone, rights)
+                for call, offer, answer in rows:
+                    if levels.leq(call[1], level):
+                        self.assertEqual(self.call(alone, others, call), answer, (seed, level, call))
+                    elif offer is not None and levels.leq(offer[2], level) and answer[0] == "told":
+                        self.assertEqual(alone.perform(offer[2], ("typed", offer[1], offer[3], offer[4])), answer)
+                self.assertEqual(seen_of(alone, level), seen_of(engine, level))
+        self.assertGreater(approved, 30)
 
 
 if __name__ == "__main__":

@@ -493,6 +493,40 @@ class RandomTests(unittest.TestCase):
                             self.assertEqual([joined.answer(each) for each in lower], [one.answer(each) for each in lower])
 
 
+class ReasonTests(unittest.TestCase):
+    def test_records_of_lower_levels_without_copies_refuse_nothing(self):
+        # Each level has one source here, so no other record of its own level can be in the way.
+        told_of = 0
+        for seed in range(60):
+            world = World(seed)
+            world.copies = world.copies[::2]
+            for _ in range(60):
+                copy = world.random.choice(world.copies)
+                deed = world.deed(copy)
+                if world.random.random() < 0.3:
+                    other = world.random.choice(world.copies)
+                    if world.levels.leq(other.level, copy.level):
+                        self.assertEqual(copy.merge(other), [])
+                elif deed[0] != "copy":
+                    copy.perform(deed)
+            for copy in world.copies:
+                for other in world.copies:
+                    if world.levels.leq(other.level, copy.level):
+                        self.assertEqual(copy.merge(other), [], seed)
+                told_of += len(copy)
+                self.assertEqual([record.mark for record in copy.records() if copy.answer(record.mark)[0] == "refused"], [])
+        self.assertGreater(told_of, 500)
+
+    def test_a_record_is_refused_if_the_piece_that_it_works_in_was_not_copied(self):
+        one, two, three = copy_of("low", "a"), copy_of("low", "b"), copy_of("high", "c")
+        done(one, ("delete", low(2)))
+        done(two, LINE, ("copy", low(2), (), 0))
+        three.merge(two)
+        done(three, ("change", (*high(1), mark("low", "b", 2)), "x"), ("change", high(1), "y"))
+        self.assertEqual(three.merge(one), [mark("low", "b", 2), mark("high", "c", 1)])
+        self.assertEqual(three.answer(mark("high", "c", 2)), ("told", "h"))
+
+
 class HomeTests(unittest.TestCase):
     def test_records_come_home_once_and_in_their_order(self):
         engine, base = desk()
