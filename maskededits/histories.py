@@ -45,12 +45,12 @@ class History:
         return True
 
     def can_come(self, counts, level):
-        """Tells whether the next deed of a level leads from a moment to a moment."""
-        number = counts.get(level, 0) + 1
+        """Tells whether the next deed of a level leads from a moment, told with all levels, to a moment."""
+        number = counts[level] + 1
         for low, high in self.pairs:
-            if high == level and counts.get(low, 0) < self.need(level, number, low):
+            if high == level and counts[low] < self.need(level, number, low):
                 return False
-            behind = counts.get(high, 0) + 1
+            behind = counts[high] + 1
             if low == level and behind <= len(self.rows[high]) and number > self.need(high, behind, level):
                 return False
         return True

@@ -151,7 +151,7 @@ class Past:
             # Nodes are never dropped, so the new ones stand behind all others.
             for name in list(engine.document.nodes)[len(makers):]:
                 makers[name] = (level, number)
-        return {name: makers[name] for name in makers if engine.document.level_of(name) in self.history.rows}
+        return makers
 
     def made(self, name):
         """Returns the first moment with the deed that made a node."""

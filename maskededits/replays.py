@@ -5,10 +5,8 @@ from maskededits.forms import marks_made
 
 
 def mark_told(deed, told):
-    """Returns the mark with which a deed must be done again, or None if its marks come of themselves."""
-    if marks_made(deed) == 0 or told[-1][1] == "":
-        return None
-    return told[-1]
+    """Returns the first mark that a deed drew, or None; with it the deed is done again in the same way."""
+    return told[-1] if marks_made(deed) > 0 else None
 
 
 def replayed(levels, limit, entries):

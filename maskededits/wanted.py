@@ -155,9 +155,9 @@ class Wanted:
         if line.inner is None:
             return True
         order = self.seen.order
-        if line.inner == self.level or line.is_open != (line.inner in self.seen.shown):
-            return False
-        return line.inner not in self.seen.shown or order.index(line.inner) > order.index(self.level)
+        if line.inner not in self.seen.shown:
+            return not line.is_open
+        return line.is_open and order.index(line.inner) > order.index(self.level)
 
     def is_copied(self, index):
         """Tells whether the lines of a copy, and those of its node, are those of the view."""

@@ -276,10 +276,13 @@ class Deeds:
         ])
 
 
-def history(seed, levels, many, limit=40):
-    """Returns a random row of calls (level, deed), with what the model answers to them."""
+def history(seed, levels, many, limit=40, boxes=()):
+    """Returns a random row of calls (level, deed), with what the model answers to them.
+
+    At first the least level makes a loose box of each level in boxes, so that it can begin to work at once.
+    """
     model, deeds = Model(levels, limit), Deeds(seed, levels)
-    calls = []
+    calls = [(levels.least, ("box", inner), model.perform(levels.least, ("box", inner))) for inner in boxes]
     for _ in range(many):
         level = deeds.random.choice(levels.names())
         deed = deeds.deed(model, level)

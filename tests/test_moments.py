@@ -116,7 +116,7 @@ def moments_of(calls, levels, level):
 
 def accepted(seed, levels, many, limit=40):
     """Returns an engine behind a random history, scripts included, its accepted calls, and for each level its views."""
-    calls, _ = history(seed, levels, many, limit)
+    calls, _ = history(seed, levels, many, limit, levels.names()[1:] if seed % 3 else ())
     chance = Deeds(seed, levels).random
     engine, done = Engine(levels, limit=limit), []
     views = [views_of(engine)]
@@ -187,7 +187,7 @@ class HistoryTests(unittest.TestCase):
                     self.assertEqual(past(Moment(counts)), alone.view(level), (seed, level, counts))
 
     def test_records_between_two_moments(self):
-        for seed, levels, engine, done, views in cases(15, 14):
+        for seed, levels, engine, done, views in cases(60, 18):
             for level in levels.names():
                 past = Past(engine, level)
                 found = [Moment(counts) for counts in moments_of(done, levels, level)]
@@ -219,7 +219,7 @@ class HistoryTests(unittest.TestCase):
                 self.assertEqual([cuts[-1], len(cuts)], [past.now, past.now.deeds + 1])
 
     def test_first_with_and_last_without(self):
-        for seed, levels, engine, done, views in cases(15, 14):
+        for seed, levels, engine, done, views in cases(60, 16):
             for level in levels.names():
                 past = Past(engine, level)
                 found = [Moment(counts) for counts in moments_of(done, levels, level)]
@@ -318,6 +318,18 @@ class PastTests(unittest.TestCase):
         self.assertEqual(list(past.records(past.start, past.now)), [])
         self.assertEqual(past(past.start), diamond().view("top"))
         self.assertFalse(past.changes(past.start, past.now))
+
+    def test_a_deed_that_must_wait_for_one_of_a_later_level(self):
+        engine = diamond()
+        told(engine, "west", ("box", "top"))
+        told(engine, "low", ("box", "top"))
+        told(engine, "east", ("box", "top"))
+        past = Past(engine, "top")
+        self.assertEqual([row[0] for row in past.records(past.start, past.now)], ["west", "low", "east"])
+        self.assertEqual(past.first_with("east", 1), past.now)
+        self.assertEqual(past.last_without("west", 1), past.start)
+        self.assertEqual([row[0] for row in Past(engine, "east").records(past.start, Moment({"low": 1, "east": 1}))],
+                         ["low", "east"])
 
     def test_levels_that_are_none(self):
         for thing in [None, "", "none", 0, ("low",), ["low"], {}]:
