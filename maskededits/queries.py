@@ -211,7 +211,9 @@ def rows_in_order(view, names, key):
 def sorted_by(view, names, key):
     """Returns names in ascending order of a value, equal ones in document order."""
     rows = rows_in_order(view, names, key)
-    return [name for value, name in sorted(rows, key=lambda row: row[0])]
+    # Places stand behind the values, so names with equal values keep their order.
+    values = sorted([(row[0], place) for place, row in enumerate(rows)])
+    return [rows[place][1] for value, place in values]
 
 
 def grouped_by(view, names, key):

@@ -93,21 +93,19 @@ class Copy:
         return self.base == other.base and self.held == other.held and self.limit == other.limit
 
     def check_other(self, other):
-        """Raises an error if the records of another copy cannot be taken."""
+        """Raises an error if another copy is not one whose records can be taken."""
         if not self.levels.leq(other.level, self.level):
             raise InvalidLevel(other.level)
         if self.levels != other.levels or self.limit != other.limit:
             raise BadRecords(other.source)
         if ordered_entries(self.levels, other.level, self.base) != other.base:
             raise BadRecords(other.source)
-        for mark in other.held:
-            if mark in self.held and self.held[mark] != other.held[mark]:
-                raise BadRecords(mark)
 
     def merge(self, other):
         """Takes the records of another copy; returns the marks of those held before that are answered otherwise."""
         self.check_other(other)
         before = self.answers
+        # Own records stand first, so what is bad is told in the order of the other copy.
         rows = records_in_order(self.levels, [*list(self.held.values()), *list(other.held.values())])
         engine = self.ground.twin()
         answers = {record.mark: play_record(engine, record) for record in rows}

@@ -133,6 +133,13 @@ class AskingTests(EditCase):
         self.assertEqual(edit(lambda deed: engine.perform("low", deed)), [("told", low(2))])
         self.assertEqual(format_view(engine.view("high")), 'pocket low.2 {high} "x"\nline low.1 "a"')
 
+    def test_a_new_pocket_in_brackets_into_which_the_view_would_see(self):
+        engine = two_levels()
+        told(engine, "low", ("insert", (), 0, "line", "a"))
+        with self.assertRaises(InvalidEdit) as caught:
+            Edit(engine.view("high"), "low", 'line low.1 "a"\npocket - [high] "x"')
+        self.assertEqual(caught.exception.value, 1)
+
     def test_nodes_left_out(self):
         self.low([], ["delete"] * 3)
         self.low(LOW[3:], ["delete"])
@@ -326,6 +333,7 @@ class ErrorTests(unittest.TestCase):
         rows = format_view(both).split("\n")
         self.assertEqual(Edit(both, "east", lines_of(rows[0], '  pocket - {west} ""', rows[1])).kinds(), ["pocket"])
         self.assertEqual(Edit(both, "east", lines_of(rows[0], '  pocket - [top] ""', rows[1])).kinds(), ["pocket"])
+        self.assertEqual(self.value(both, "east", [rows[0], '  pocket - [west] ""', rows[1]]), 1)
         self.assertEqual(self.value(both, "west", [*rows, '  pocket - {east} ""']), 2)
         self.assertEqual(self.value(both, "west", [*rows, '  pocket - {west} ""']), 2)
         self.assertEqual(self.value(both, "west", [*rows, '  pocket - {low} ""']), 2)

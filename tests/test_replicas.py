@@ -225,6 +225,7 @@ class CopyTests(unittest.TestCase):
         done(one, ("insert", low(2), 0, "line", ""))
         twin = one.twin()
         self.assertTrue(one == twin and not one != twin)
+        self.assertEqual(twin.view(), one.view())
         done(twin, ("insert", low(2), 0, "line", "x"))
         self.assertEqual([len(one), len(twin), one == twin], [1, 2, False])
         self.assertEqual([twin.level, twin.source, twin.view() == one.view()], ["high", "pad", False])
