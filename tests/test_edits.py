@@ -547,6 +547,71 @@ class MoveTests(EditCase):
         return found
 
 
+class Judge:
+    """Says of each line alone whether it asks for more than [15] allows; slow, after the words of the document."""
+
+    def __init__(self, view, level, lines):
+        self.view, self.level, self.lines = view, level, lines
+        self.shown = parse_lines(format_view(view))
+
+    def parent(self, at):
+        depth = self.lines[at].depth
+        return max([place for place in range(at) if self.lines[place].depth == depth - 1], default=None) if depth else None
+
+    def block(self, lines, at):
+        found = []
+        for line in lines[at:]:
+            if found and line.depth <= lines[at].depth:
+                break
+            found.append((line.depth - lines[at].depth, line.kind, line.node_name, line.inner, line.is_open, line.text))
+        return found
+
+    def shown_block(self, name):
+        return self.block(self.shown, [line.node_name for line in self.shown].index(name))
+
+    def holder_level(self, at):
+        parent = self.parent(at)
+        if parent is None:
+            return self.view.order[0]
+        line = self.lines[parent]
+        if line.text is None:
+            return self.view.loose[line.node_name]
+        return line.inner or (self.level if line.node_name is None else self.view[line.node_name][2])
+
+    def asks_for_more(self, at):
+        line, name = self.lines[at], self.lines[at].node_name
+        ahead = [place for place in range(at) if self.lines[place].node_name == name]
+        if line.text is None:
+            boxes = [each.node_name for each in self.lines[:at] if each.text is None]
+            return name not in self.view.loose or any(each >= name for each in boxes)
+        if name is None:
+            before = self.view.order[:self.view.order.index(self.level) + 1]
+            wrong = line.inner in [level for level in before if level in self.view.shown]
+            return wrong or self.holder_level(at) != self.level or line.is_open != (line.inner in self.view.shown)
+        if name not in self.view:
+            return True
+        if self.view[name][2] != self.level:
+            parent = self.parent(at)
+            siblings = [place for place in range(at) if self.parent(place) == parent
+                        and self.lines[place].text is not None]
+            top = () if parent is None else self.lines[parent].node_name
+            held = () if top is None or (top in self.view and self.view.holds(top) is None) else self.view.holds(top)
+            return held[len(siblings):len(siblings) + 1] != (name,) or self.shown_block(name)[0][1:] != self.block(
+                self.lines, at)[0][1:]
+        if ahead:
+            due = self.shown_block(name)
+            return self.holder_level(at) != self.level or any(self.block(self.lines, each) != due for each in (at, ahead[0]))
+        return self.holder_level(at) != self.level or self.shown_block(name)[0][1:5] != self.block(self.lines, at)[0][1:5]
+
+    def value(self):
+        """Returns the value of the error that is due, or "none"."""
+        for at in range(len(self.lines)):
+            if self.asks_for_more(at):
+                return at
+        met = [line.node_name for line in self.lines]
+        return None if any(self.view[name][2] != self.level and name not in met for name in self.view.walk()) else "none"
+
+
 class RandomTests(EditCase):
     """Random changed texts, built as trees of [line, children] so that they ask for nothing that is not allowed."""
 
@@ -675,12 +740,12 @@ class RandomTests(EditCase):
 
     def test_a_text_is_reached_or_refused(self):
         reached = refused = 0
-        for engine, level, chance in self.engines(300):
+        for engine, level, chance in self.engines(400):
             rows = format_view(engine.view(level)).split("\n")
             for _ in range(chance.randint(1, 3)):
                 at, place = chance.randrange(len(rows)), chance.randrange(len(rows))
                 row = rows[at]
-                change = chance.randrange(7)
+                change = chance.randrange(9)
                 if change == 0:
                     del rows[at]
                 elif change == 1:
@@ -693,15 +758,27 @@ class RandomTests(EditCase):
                     rows[at] = row[2:] if row[:2] == "  " else row
                 elif change == 5:
                     rows[at] = row[:-1] + 'x"' if row[-1:] == '"' else row
+                elif change == 6:
+                    inner = chance.choice(["{", "["]) + chance.choice([*engine.levels.names(), "none"])
+                    rows.insert(at, 'pocket - ' + inner + ("}" if inner[0] == "{" else "]") + ' "n"')
+                elif change == 7:
+                    end = max([place for place in range(at, len(rows)) if all(
+                        len(each) - len(each.lstrip()) > len(row) - len(row.lstrip()) for each in rows[at + 1:place + 1])])
+                    rows[place:place] = rows[at:end + 1]
                 else:
                     rows.insert(at, row[:len(row) - len(row.lstrip())] + 'line - "n"')
                 rows = rows or [""]
             text = lines_of(*rows)
             try:
                 Edit(engine.view(level), level, text)
-            except (InvalidText, InvalidEdit) as error:
-                self.assertTrue(error.value is None or 0 <= error.value < len(rows))
+            except InvalidText:
+                continue
+            except InvalidEdit as error:
+                self.assertEqual(error.value, Judge(engine.view(level), level, parse_lines(text)).value(), (level, text))
                 refused += 1
+                continue
+            self.assertEqual(Judge(engine.view(level), level, parse_lines(text)).value(), "none")
+            if ("refused", "above") in [answer[:2] for answer in done(engine, level, text)[2]]:
                 continue
             reached += 1
             self.assert_leads_to(engine, level, text)
