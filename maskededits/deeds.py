@@ -35,7 +35,7 @@ def check_above(document, level, inner):
 
 def check_room(document, level, many):
     """Refuses more nodes of a level than there is room for."""
-    if document.used[level] + many > document.limit:
+    if document.used_by(level) + many > document.limit:
         raise Refused("full", document.limit)
 
 
@@ -53,7 +53,8 @@ def placing_step(word, document, spot, name, grown):
     """Returns the step that puts a node at a place of a holder."""
     holder, place = spot
     held = document.held[holder]
-    return Step(word, {}, {holder: (held, with_name(held, name, place))}, grown)
+    rows = {holder: (held, with_name(held, name, place))}
+    return Step(word, document.holder_level(holder), {}, rows, grown)
 
 
 def do_insert(document, level, first, parts):
@@ -84,7 +85,7 @@ def do_change(document, level, first, parts):
     name, text = parts
     check_node(document, level, name)
     old = document.texts[name]
-    return old, Step("change", {name: (old, text)}, {}, 0)
+    return old, Step("change", level, {name: (old, text)}, {}, 0)
 
 
 def do_move(document, level, first, parts):
@@ -99,7 +100,7 @@ def do_move(document, level, first, parts):
     old = document.holders[name]
     rows = {old: (document.held[old], without_name(document.held[old], name))}
     rows[holder] = (document.held[holder], with_name(left, name, place))
-    return None, Step("move", {}, rows, 0)
+    return None, Step("move", level, {}, rows, 0)
 
 
 def do_copy(document, level, first, parts):
@@ -123,7 +124,7 @@ def do_box(document, level, first, parts):
     check_above(document, level, inner)
     name = (first,)
     document.make(name, ("pocket", level, inner), "", ())
-    return name, Step("box", {}, {}, 0)
+    return name, Step("box", level, {}, {}, 0)
 
 
 def do_delete(document, level, first, parts):
@@ -133,8 +134,8 @@ def do_delete(document, level, first, parts):
     holder = document.holders[name]
     held = document.held[holder]
     piece = document.piece(name)
-    step = Step("delete", {}, {holder: (held, without_name(held, name))}, -document.own_many(piece, level))
-    return len(piece), step
+    rows = {holder: (held, without_name(held, name))}
+    return len(piece), Step("delete", level, {}, rows, -document.own_many(piece, level))
 
 
 def make_typed(document, payload, mark):

@@ -28,9 +28,13 @@ class Document:
         self.numbers = {}
         self.used = {level: 0 for level in levels.names()}
 
+    def blank(self):
+        """Returns a new document of the same kind."""
+        return Document(self.levels, self.limit)
+
     def twin(self):
         """Returns an independent document in the same state."""
-        other = Document(self.levels, self.limit)
+        other = self.blank()
         other.nodes = copied(self.nodes)
         other.texts = copied(self.texts)
         other.held = copied(self.held)
@@ -98,6 +102,14 @@ class Document:
         # A lower level that copies a node puts a mark of its own at the end of the name.
         return len([name for name in names if name[-1][0] == level])
 
+    def used_by(self, level):
+        """Returns how many nodes count as made by the own deeds of a level."""
+        return self.used[level]
+
+    def text_shown(self, name, shown):
+        """Returns the text of a node as it is shown to who sees some levels."""
+        return self.texts[name]
+
     def next_mark(self, level, source):
         """Returns the mark that comes next for a level and source."""
         return (level, source, self.numbers.get((level, source), 0) + 1)
@@ -121,8 +133,16 @@ class Document:
         key = (mark[0], mark[1])
         self.numbers[key] = max(mark[2], self.numbers.get(key, 0))
 
-    def lead(self, level, step, side):
-        """Leads to what was before the step of a deed of a level, or to what was behind it."""
+    def refill(self, box, names):
+        """Lets go of what a box holds, and puts nodes into it that nothing holds."""
+        for name in self.held[box]:
+            self.holders[name] = None
+        self.held[box] = names
+        for name in names:
+            self.holders[name] = box
+
+    def lead(self, step, side):
+        """Leads to what was before the step of a deed, or to what was behind it."""
         for name in step.texts:
             self.texts[name] = step.texts[name][side]
         for holder in step.rows:
@@ -133,7 +153,7 @@ class Document:
             self.held[holder] = step.rows[holder][side]
             for name in self.held[holder]:
                 self.holders[name] = holder
-        self.used[level] += step.grown if side == AGAIN else -step.grown
+        self.used[step.level] += step.grown if side == AGAIN else -step.grown
 
     def summary(self, shown):
         """Returns a value of all nodes of some levels, and of what their holders hold."""
@@ -141,7 +161,7 @@ class Document:
         for name in sorted([name for name in self.nodes if self.level_of(name) in shown]):
             inner = self.nodes[name][2]
             held = self.held[name] if inner is None or inner in shown else None
-            rows.append((name, self.nodes[name], self.texts[name], held))
+            rows.append((name, self.nodes[name], self.text_shown(name, shown), held))
         return tuple(rows)
 
     def last_numbers(self, shown):

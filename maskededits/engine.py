@@ -12,6 +12,7 @@ from maskededits.views import view_of
 
 GREATEST_LIMIT = 60
 GREATEST_GIVEN = 10 ** 17
+SCRIPT_STEPS = 400
 NOT_AT_DESKS = ("undo", "redo", "script", "typed")
 
 
@@ -62,7 +63,7 @@ class Engine:
             return self.script_done(level, deed[1], source)
         first = self.document.next_mark(level, source) if mark is None else mark
         value, step = prepared(self.document, level, first, deed)
-        self.document.lead(level, step, AGAIN)
+        self.document.lead(step, AGAIN)
         self.keep(level, step)
         return value
 
@@ -76,9 +77,13 @@ class Engine:
         if not steps[level]:
             raise Refused("nothing", None)
         step = steps[level].pop()
-        self.document.lead(level, step, side)
+        self.document.lead(step, side)
         others[level].append(step)
         return step.word
+
+    def script_steps(self):
+        """Returns how many steps a script has."""
+        return SCRIPT_STEPS
 
     def script_done(self, level, text, source):
         """Runs a script; all its deeds are one step."""
@@ -88,13 +93,22 @@ class Engine:
             raise Refused("script", ("syntax", error.at)) from None
         desk = Desk(self, level)
         desk.source = source
-        answer, behind = run_script(script, desk)
+        answer, behind = run_script(script, desk, self.script_steps())
         if answer[0] == "refused":
             raise Refused("script", answer[2])
-        steps = behind.engine.undos[level][len(self.undos[level]):]
-        self.document = behind.engine.document
-        self.keep(level, joined_step("script", steps))
+        self.go_on(level, behind.engine)
         return answer[1]
+
+    def go_on(self, level, other):
+        """Goes on from where a twin stands behind deeds of a level, which are one step here."""
+        steps = []
+        for each in self.undos:
+            many = len(self.undos[each])
+            steps.extend(other.undos[each][many:])
+            self.undos[each] = other.undos[each][:many]
+            self.redos[each] = list(other.redos[each])
+        self.document = other.document
+        self.keep(level, joined_step("script", level, steps))
 
     def clock(self, level):
         """Returns how many deeds of a level and of those below it were accepted."""
@@ -109,11 +123,15 @@ class Engine:
     def room(self, level):
         """Returns how many nodes the own deeds of a level may still make."""
         self.levels.check(level)
-        return self.limit - self.document.used[level]
+        return self.limit - self.document.used_by(level)
+
+    def blank(self):
+        """Returns a new engine of the same kind."""
+        return Engine(self.levels, limit=self.limit)
 
     def twin(self):
         """Returns an independent engine in the same state."""
-        other = Engine(self.levels, limit=self.limit)
+        other = self.blank()
         other.document = self.document.twin()
         other.entries = list(self.entries)
         other.undos = {level: list(self.undos[level]) for level in self.undos}

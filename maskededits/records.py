@@ -66,13 +66,21 @@ def records_in_order(levels, records):
     return rows
 
 
+def given_mark(record):
+    """Returns the mark that is given to the deed of a record, or None if the deed draws it."""
+    return None if record.first is None or record.first[1] == "" else record.first
+
+
+def record_done(engine, record):
+    """Does the deed of a record and returns the answer."""
+    return engine.perform(record.mark[0], record.act, mark=given_mark(record))
+
+
 def play_record(engine, record):
     """Does the deed of a record and returns the answer; of a pocket that is refused the box is made."""
-    level = record.mark[0]
-    mark = None if record.first is None or record.first[1] == "" else record.first
-    answer = engine.perform(level, record.act, mark=mark)
+    answer = record_done(engine, record)
     if answer[0] == "refused" and is_deed(record.act) and record.act[0] == "pocket":
-        engine.perform(level, ("box", record.act[3]), mark=mark)
+        engine.perform(record.mark[0], ("box", record.act[3]), mark=given_mark(record))
     return answer
 
 

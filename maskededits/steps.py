@@ -2,10 +2,11 @@
 
 
 class Step:
-    """The change of one deed: the texts and the rows of held names, each before and behind it."""
+    """The change of one deed of a level: the texts and the rows of held names, each before and behind it."""
 
-    def __init__(self, word, texts, rows, grown):
+    def __init__(self, word, level, texts, rows, grown):
         self.word = word
+        self.level = level
         self.texts = {name: texts[name] for name in texts}
         self.rows = {holder: rows[holder] for holder in rows}
         self.grown = grown
@@ -29,11 +30,11 @@ def chained_pairs(first, second):
     return pairs
 
 
-def joined_step(word, steps):
-    """Returns one step that changes what several steps change, one after another."""
+def joined_step(word, level, steps):
+    """Returns one step of a level that changes what several of its steps change, one after another."""
     texts = {}
     rows = {}
     for step in steps:
         texts = chained_pairs(texts, step.texts)
         rows = chained_pairs(rows, step.rows)
-    return Step(word, texts, rows, sum([step.grown for step in steps]))
+    return Step(word, level, texts, rows, sum([step.grown for step in steps]))

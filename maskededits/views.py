@@ -127,7 +127,7 @@ def view_of(document, shown):
         while waiting:
             name = waiting.pop()
             kind, level, inner = document.nodes[name]
-            rows[name] = (kind, document.texts[name], level, inner, document.holders[name])
+            rows[name] = (kind, document.text_shown(name, shown), level, inner, document.holders[name])
             if inner is None or inner in shown:
                 held[name] = document.held[name]
                 waiting.extend(held[name])

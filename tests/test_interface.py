@@ -5,10 +5,16 @@ import inspect
 import os
 import unittest
 
+import maskededits.checker
+import maskededits.console
 import maskededits.edits
 import maskededits.engine
 import maskededits.errors
+import maskededits.faults
+import maskededits.journals
+import maskededits.leaks
 import maskededits.levels
+import maskededits.losses
 import maskededits.moments
 import maskededits.names
 import maskededits.queries
@@ -16,6 +22,7 @@ import maskededits.records
 import maskededits.release
 import maskededits.replicas
 import maskededits.running
+import maskededits.server
 import maskededits.syntax
 import maskededits.texts
 import maskededits.views
@@ -33,6 +40,13 @@ FUNCTIONS = {
     "release": {"payload_of": ["view", "name"]},
     "records": {"records_in_order": ["levels", "records"], "played_records": ["levels", "records", "limit"]},
     "replicas": {"base_of": ["engine", "level"]},
+    "checker": {
+        "answer_to": ["engine", "level", "deed"], "shortened_calls": ["levels", "calls", "level"],
+        "answers_to": ["levels", "calls", "fault", "limit"], "first_leak": ["levels", "calls", "fault", "limit"],
+        "first_wrong": ["levels", "log", "limit"]},
+    "losses": {"first_loss": ["levels", "calls", "fault", "limit"]},
+    "faults": {"faulty_engine": ["word", "levels", "limit"]},
+    "leaks": {"shortest_finding": ["levels", "menu", "most", "fault", "losses", "limit"]},
 }
 CLASSES = {
     "levels": {"Levels": {
@@ -76,6 +90,16 @@ CLASSES = {
                  "joined": ["other"], "twin": [], "__eq__": ["other"]},
         "Home": {"__init__": ["engine", "taken"], "take": ["copy"], "marks": [], "__contains__": ["mark"],
                  "__len__": []}},
+    "journals": {"Journals": {
+        "__init__": ["levels", "limit"], "of": ["engine"], "write": ["level", "deed", "told"], "journal": ["level"],
+        "__len__": [], "write_all": ["rows"], "cut": ["lengths"], "standing": [], "recovered": []}},
+    "server": {
+        "Server": {"__init__": ["levels", "rights", "limit"], "session": ["user", "level"], "users": ["level"], "log": [],
+                   "__len__": []},
+        "Session": {"close": [], "__enter__": [], "__exit__": ["kind", "value", "trace"], "call": ["deed"], "do": [],
+                    "view": [], "past": [], "edit": ["text"], "offer": ["name", "to", "holder", "place"],
+                    "approve": ["number"], "withdraw": ["number"], "open_offers": []}},
+    "console": {"Console": {"__init__": [], "run": ["line"]}},
 }
 PROPERTIES = [
     (maskededits.levels.Levels, "least"), (maskededits.queries.Difference, "gone"), (maskededits.queries.Difference, "new"),
@@ -86,6 +110,7 @@ PROPERTIES = [
 GENERATORS = [
     maskededits.views.View.walk, maskededits.syntax.Script.call_words, maskededits.moments.Past.records,
     maskededits.moments.Past.cuts, maskededits.release.Releases.offers, maskededits.replicas.Copy.records,
+    maskededits.journals.Journals.journal, maskededits.server.Server.users,
 ]
 
 
@@ -97,7 +122,7 @@ def tree_of(module):
 def parameters(node):
     """Returns the names of the parameters of a function, without the first one of a method."""
     names = [each.arg for each in node.args.args + node.args.kwonlyargs]
-    return names[1:] if names and names[0] == "self" else names
+    return names[1:] if names and names[0] in ("self", "cls") else names
 
 
 class InterfaceTests(unittest.TestCase):
@@ -123,9 +148,17 @@ class InterfaceTests(unittest.TestCase):
         self.assertEqual(inspect.signature(maskededits.running.run_script).parameters["steps"].default, 400)
         self.assertEqual(inspect.signature(maskededits.levels.Levels).parameters["pairs"].default, ())
         for made, word, default in [(maskededits.replicas.Copy, "limit", 40), (maskededits.replicas.Home, "taken", ()),
-                                    (maskededits.records.played_records, "limit", 40)]:
+                                    (maskededits.records.played_records, "limit", 40), (maskededits.journals.Journals, "limit", 40),
+                                    (maskededits.leaks.shortest_finding, "losses", False), (maskededits.leaks.shortest_finding, "limit", 40),
+                                    (maskededits.server.Server, "limit", 40)]:
             found = inspect.signature(made).parameters[word]
             self.assertEqual([found.default, found.kind], [default, inspect.Parameter.KEYWORD_ONLY])
+        for made in (maskededits.checker.answers_to, maskededits.checker.first_leak, maskededits.losses.first_loss,
+                     maskededits.checker.first_wrong, maskededits.faults.faulty_engine):
+            found = inspect.signature(made).parameters
+            self.assertEqual([found["limit"].default, found["limit"].kind], [40, inspect.Parameter.POSITIONAL_OR_KEYWORD])
+            if "fault" in found:
+                self.assertEqual(found["fault"].default, "")
 
     def test_properties_and_what_yields(self):
         for owner, word in PROPERTIES:
@@ -197,6 +230,55 @@ class InterfaceTests(unittest.TestCase):
         self.assertEqual([copy.answer(mark=("low", "pad", 1)), copy.merge(other=copy), copy.joined(other=copy) == copy],
                          [("told", 1), [], True])
         self.assertEqual(len(maskededits.replicas.Home(engine=engine, taken=()).take(copy=copy)), 1)
+
+    def test_arguments_of_the_last_stages_by_name(self):
+        levels = maskededits.levels.Levels(["low", "high"])
+        checker, line = maskededits.checker, ("insert", (), 0, "line", "a")
+        engine = maskededits.faults.faulty_engine(word="clock", levels=levels, limit=3)
+        self.assertEqual(checker.answer_to(engine=engine, level="low", deed=("room",)), ("told", 3))
+        calls = [("low", line)]
+        self.assertEqual(checker.shortened_calls(levels=levels, calls=calls, level="high"), [0])
+        self.assertEqual(checker.answers_to(levels=levels, calls=calls, fault="", limit=1), [("told", (("low", "", 1),))])
+        self.assertIsNone(checker.first_leak(levels=levels, calls=calls, fault="", limit=1))
+        self.assertIsNone(checker.first_wrong(levels=levels, log=[], limit=1))
+        self.assertIsNone(maskededits.losses.first_loss(levels=levels, calls=calls, fault="", limit=1))
+        self.assertIsNone(maskededits.leaks.shortest_finding(levels=levels, menu=tuple(calls), most=1, fault="", losses=True, limit=1))
+        engine.perform("low", line)
+        journals = maskededits.journals.Journals.of(engine=engine)
+        self.assertEqual([journals.cut(lengths={"low": 1}).standing(), len(list(journals.journal(level="low")))], [{"low": 1, "high": 0}, 1])
+        other = maskededits.journals.Journals(levels=levels, limit=3)
+        other.write(level="low", deed=line, told=(("low", "", 1),))
+        other.write_all(rows=[])
+        self.assertEqual(len(other), 1)
+        server = maskededits.server.Server(levels=levels, rights={"ann": ["high"]}, limit=4)
+        session = server.session(user="ann", level="high")
+        self.assertEqual([session.call(deed=("room",)), list(server.users(level="high"))], [("told", 4), ["ann"]])
+        self.assertEqual(session.edit(text=""), [])
+        for act, error in [(lambda: session.offer(name=(), to="low", holder=(), place=0), maskededits.errors.Refused),
+                           (lambda: session.approve(number=1), maskededits.errors.NoOffer),
+                           (lambda: session.withdraw(number=1), maskededits.errors.NoOffer)]:
+            with self.assertRaises(error):
+                act()
+        self.assertEqual(maskededits.console.Console().run(line="begin low / ann"), "ok")
+
+    def test_attributes_are_set_when_the_object_is_created(self):
+        levels = maskededits.levels.Levels(["low", "high"])
+        server = maskededits.server.Server(levels, {"ann": ["low"]})
+        session = server.session("ann", "low")
+        self.assertEqual([session.user, session.level, session.is_open], ["ann", "low", True])
+        self.assertIsInstance(server.engine, maskededits.engine.Engine)
+        self.assertEqual(server.engine.view("low").loose, {})
+        record = maskededits.records.Record(mark=1, stamp=2, after=3, act=4, first=5)
+        self.assertEqual([record.mark, record.stamp, record.after, record.act, record.first], [1, 2, 3, 4, 5])
+
+    def test_errors_stand_where_they_should(self):
+        errors = maskededits.errors
+        under = {ValueError: ["MaskError"], KeyError: ["NotSeen", "NoOffer"], RuntimeError: ["Refused", "NoRight", "SameUser", "Closed", "NoServer"],
+                 errors.MaskError: ["InvalidLevels", "InvalidLevel", "InvalidName", "InvalidNumber", "InvalidText", "InvalidQuery", "InvalidView",
+                                    "InvalidMoment", "InvalidEdit", "BadRecords", "InvalidRights", "InvalidLine", "NoFault", "InvalidScript"]}
+        for base, words in under.items():
+            for word in words:
+                self.assertEqual(getattr(errors, word).__bases__, (base,), word)
 
 
 if __name__ == "__main__":
