@@ -265,6 +265,59 @@ class StatementTests(unittest.TestCase):
             if isinstance(node.func, ast.Attribute):
                 self.assertNotEqual(node.func.attr, "sort", (name, node.lineno))
 
+    def test_l25_methods_of_builtin_values_are_allowed_ones(self):
+        own = {part.name for _, node in nodes_of(ast.ClassDef) for part in node.body if isinstance(part, ast.FunctionDef)}
+        for name, node in nodes_of(ast.Call):
+            if isinstance(node.func, ast.Attribute):
+                self.assertIn(node.func.attr, own | BUILTIN_METHODS, (name, node.lineno))
+
+    def test_l25_methods_are_called_where_they_stand(self):
+        kept = {node.attr for _, node in nodes_of(ast.Attribute) if isinstance(node.ctx, ast.Store)}
+        plain = {part.name for _, node in nodes_of(ast.ClassDef) for part in node.body
+                 if isinstance(part, ast.FunctionDef) and not [each for each in part.decorator_list if each.id == "property"]}
+        for name, tree in trees():
+            called = {id(node.func) for node in ast.walk(tree) if isinstance(node, ast.Call)}
+            for node in ast.walk(tree):
+                if isinstance(node, ast.Attribute) and node.attr in plain - kept:
+                    self.assertIn(id(node), called, (name, node.lineno))
+
+    def test_l23_what_yields_is_iterated_at_once(self):
+        words = {node.name for _, node in nodes_of(ast.FunctionDef)
+                 if any(isinstance(part, (ast.Yield, ast.YieldFrom)) for part in ast.walk(node))}
+        words |= {"zip", "enumerate", "reversed", "range"}
+        for name, tree in trees():
+            above = {id(part): node for node in ast.walk(tree) for part in ast.iter_child_nodes(node)}
+            for node in ast.walk(tree):
+                if isinstance(node, ast.Call) and getattr(node.func, "id", getattr(node.func, "attr", None)) in words:
+                    around = above[id(node)]
+                    if isinstance(around, ast.Call):
+                        self.assertIn(around.func.id, {"list", "tuple", "dict", "sorted", "enumerate", "zip"}, (name, node.lineno))
+                    else:
+                        self.assertIsInstance(around, (ast.For, ast.comprehension, ast.YieldFrom), (name, node.lineno))
+
+    def test_l18_classes_are_not_used_as_values(self):
+        own = {node.name for _, node in nodes_of(ast.ClassDef)}
+        for name, tree in trees():
+            above = {id(part): node for node in ast.walk(tree) for part in ast.iter_child_nodes(node)}
+            for node in ast.walk(tree):
+                if isinstance(node, ast.Name) and node.id in own:
+                    around = above[id(node)]
+                    if isinstance(around, ast.Call) and around.func is not node:
+                        self.assertEqual(around.func.id, "isinstance", (name, node.lineno))
+                    elif isinstance(around, ast.Attribute):
+                        # Static methods are called off their class.
+                        self.assertEqual([node.id, around.attr], ["Script", "read"], (name, node.lineno))
+                    else:
+                        self.assertIsInstance(around, (ast.Call, ast.ClassDef, ast.ExceptHandler), (name, node.lineno))
+
+    def test_l6_exits_of_blocks_only_assign_attributes(self):
+        for name, node in nodes_of(ast.FunctionDef):
+            if node.name == "__exit__":
+                for part in node.body:
+                    self.assertIsInstance(part, ast.Assign, (name, part.lineno))
+                    self.assertIsInstance(part.value, ast.Constant, (name, part.lineno))
+                    self.assertIsInstance(part.targets[0], ast.Attribute, (name, part.lineno))
+
 
 if __name__ == "__main__":
     unittest.main()
