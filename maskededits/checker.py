@@ -2,7 +2,7 @@
 
 from maskededits.engine import Engine
 from maskededits.faults import faulty_engine
-from maskededits.names import is_integer
+from maskededits.forms import word_of
 
 ASKING = ("look", "clock", "room", "log")
 
@@ -10,14 +10,15 @@ ASKING = ("look", "clock", "room", "log")
 def answer_to(engine, level, deed):
     """Performs a call, which may only ask, and returns the answer."""
     engine.levels.check(level)
-    if not isinstance(deed, tuple) or len(deed) != 1 or deed[0] not in ASKING:
+    word = word_of(deed)
+    if word not in ASKING or len(deed) != 1:
         return engine.perform(level, deed)
-    if deed[0] == "look":
+    if word == "look":
         view = engine.view(level)
         return ("told", (view.tree(), view.attic()))
-    if deed[0] == "clock":
+    if word == "clock":
         return ("told", engine.clock(level))
-    if deed[0] == "room":
+    if word == "room":
         return ("told", engine.room(level))
     return ("told", tuple(engine.log(level)))
 
@@ -56,15 +57,32 @@ def first_leak(levels, calls, fault="", limit=40):
     return None
 
 
+def kinds_of(thing):
+    """Returns of which kinds a value is, as a tuple of True and False."""
+    return (
+        thing is None,
+        isinstance(thing, bool),
+        isinstance(thing, int),
+        isinstance(thing, str),
+        isinstance(thing, bytes),
+        isinstance(thing, tuple),
+        isinstance(thing, list),
+        isinstance(thing, dict),
+    )
+
+
 def is_same(one, other):
     """Tells whether two answers are the same; True and False are no numbers."""
     waiting = [(one, other)]
     while waiting:
         left, right = waiting.pop()
-        if isinstance(left, tuple) and isinstance(right, tuple) and len(left) == len(right):
+        # A value of another kind may claim to be equal to a number or a word, so its kind is asked first.
+        if kinds_of(left) != kinds_of(right):
+            return False
+        if isinstance(left, tuple) and len(left) == len(right):
             waiting.extend(list(zip(left, right)))
         # In tuples, because a refused value of any kind is the same as itself, whatever it is equal to.
-        elif is_integer(left) != is_integer(right) or (left,) != (right,):
+        elif (left,) != (right,):
             return False
     return True
 

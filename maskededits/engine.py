@@ -102,7 +102,7 @@ class Engine:
     def go_on(self, level, other):
         """Goes on from where a twin stands behind deeds of a level, which are one step here."""
         steps = []
-        for each in self.undos:
+        for each in list(self.undos):
             many = len(self.undos[each])
             steps.extend(other.undos[each][many:])
             self.undos[each] = other.undos[each][:many]

@@ -77,11 +77,20 @@ def is_part(sort, thing):
     return is_script_text(thing)
 
 
+def word_of(thing):
+    """Returns the text with which a tuple begins; None for what is no tuple, or begins with no text."""
+    # A value of another kind may claim to be equal to a word, so its kind is asked first.
+    if isinstance(thing, tuple) and len(thing) > 0 and isinstance(thing[0], str):
+        return thing[0]
+    return None
+
+
 def is_deed(thing):
     """Tells whether a value is a deed by its form."""
-    if not isinstance(thing, tuple) or not thing or not isinstance(thing[0], str) or thing[0] not in FORMS:
+    word = word_of(thing)
+    if word not in FORMS:
         return False
-    sorts = FORMS[thing[0]]
+    sorts = FORMS[word]
     if len(thing) != len(sorts) + 1:
         return False
     return all([is_part(sort, part) for sort, part in zip(sorts, thing[1:])])

@@ -84,7 +84,7 @@ class Journals:
             if not is_integer(kept[level]) or kept[level] < 0:
                 raise InvalidNumber(kept[level])
         journals = Journals(self.levels, limit=self.limit)
-        for record, needs in self.rows:
+        for record, needs in list(self.rows):
             level, source, number = record.mark
             if number <= kept[level]:
                 journals.put(record, needs)

@@ -4,6 +4,7 @@ from maskededits.checker import answer_to
 from maskededits.edits import Edit
 from maskededits.engine import Engine
 from maskededits.errors import Closed, InvalidRights, Refused
+from maskededits.forms import word_of
 from maskededits.levels import is_word
 from maskededits.moments import Past
 from maskededits.release import Releases
@@ -78,7 +79,7 @@ class Session:
         """Does a deed of the level, or asks, and returns the answer."""
         self.check_open()
         # Only what was offered and approved is entered as typed.
-        if isinstance(deed, tuple) and deed != () and deed[0] == "typed":
+        if word_of(deed) == "typed":
             return ("refused", "deed", deed)
         answer = answer_to(self.server.engine, self.level, deed)
         self.server.calls.append((self.level, deed, answer))

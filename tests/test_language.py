@@ -6,6 +6,8 @@ import os
 import re
 import unittest
 
+from walks import rows_that_change
+
 ROOT = os.path.dirname(os.path.dirname(os.path.abspath(__file__)))
 PACKAGE = os.path.join(ROOT, "maskededits")
 ALLOWED_BUILTINS = set(
@@ -294,6 +296,11 @@ class StatementTests(unittest.TestCase):
                         self.assertIn(around.func.id, {"list", "tuple", "dict", "sorted", "enumerate", "zip"}, (name, node.lineno))
                     else:
                         self.assertIsInstance(around, (ast.For, ast.comprehension, ast.YieldFrom), (name, node.lineno))
+
+    def test_l23_no_loop_changes_what_it_walks(self):
+        paths = python_files()
+        rows = rows_that_change(*[text_of(path) for path in paths])
+        self.assertEqual([(path, found) for path, found in zip(paths, rows) if found], [])
 
     def test_l18_classes_are_not_used_as_values(self):
         own = {node.name for _, node in nodes_of(ast.ClassDef)}
